@@ -1,0 +1,1 @@
+"""Openlines: calls handed on along lines of kinds that are not built yet."""

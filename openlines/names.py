@@ -1,0 +1,15 @@
+"""What a name is, and what an integer is."""
+
+MOST_LETTERS = 8
+
+
+def is_name(thing):
+    """Return whether any value is a name: one to eight letters from a to z."""
+    if not isinstance(thing, str) or not 1 <= len(thing) <= MOST_LETTERS:
+        return False
+    return all(["a" <= letter <= "z" for letter in thing])
+
+
+def is_integer(thing):
+    """Return whether any value is an integer; True and False are none."""
+    return isinstance(thing, int) and not isinstance(thing, bool)
