@@ -9,13 +9,21 @@ def merged(lists):
 
     Raises NoMerge with the least of the shortest rings if they have none.
     """
+    result = merge_or_none(lists)
+    if result is None:
+        raise NoMerge(_least_ring(lists))
+    return result
+
+
+def merge_or_none(lists):
+    """Return the merge of the lists, a tuple, None if they have none."""
     behind = _times_behind(lists)
     starts = [0] * len(lists)
     result = []
     while len(result) < len(behind):
         name = _free_name(lists, starts, behind)
         if name is None:
-            raise NoMerge(_least_ring(lists))
+            return None
         result.append(name)
         _take(name, lists, starts, behind)
     return tuple(result)
@@ -23,12 +31,17 @@ def merged(lists):
 
 def is_ring(lists, thing):
     """Return whether any value is a ring of the lists, shortest or not."""
-    if not isinstance(thing, tuple) or len(thing) < 2:
+    # One demand never closes a ring, as its two names differ.
+    return is_road(lists, thing) and thing[-1][1] == thing[0][0]
+
+
+def is_road(lists, thing):
+    """Return whether any value is a road of the lists: demands, each behind the one before."""
+    if not isinstance(thing, tuple) or not thing:
         return False
     if not all([is_demand(lists, row) for row in thing]):
         return False
-    # The demand ahead of the first one is the last one: that closes the ring.
-    return all([thing[at - 1][1] == thing[at][0] for at in range(len(thing))])
+    return all([thing[at - 1][1] == thing[at][0] for at in range(1, len(thing))])
 
 
 def is_demand(lists, thing):

@@ -1,5 +1,7 @@
 """What a name is, and what an integer is."""
 
+from openlines.errors import NoCall
+
 MOST_LETTERS = 8
 
 
@@ -13,3 +15,9 @@ def is_name(thing):
 def is_integer(thing):
     """Return whether any value is an integer; True and False are none."""
     return isinstance(thing, int) and not isinstance(thing, bool)
+
+
+def check_call(thing):
+    """Raise NoCall if any value is not a name."""
+    if not is_name(thing):
+        raise NoCall(thing)

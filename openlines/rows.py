@@ -7,11 +7,21 @@ MOST_ROWS = 6
 
 def is_body(call, thing):
     """Return whether any value is a body for the call name."""
-    if not is_name(call):
-        return False
+    return is_name(call) and wrong_row(call, thing) is None
+
+
+def wrong_row(call, thing):
+    """Return what keeps any value from being a body for the call name.
+
+    -1 if it is not a tuple of at most six items, otherwise the index of the
+    first item that is not a row of such a body; None if it is a body.
+    """
     if not isinstance(thing, tuple) or len(thing) > MOST_ROWS:
-        return False
-    return all([is_row(call, row) for row in thing])
+        return -1
+    for at, row in enumerate(thing):
+        if not is_row(call, row):
+            return at
+    return None
 
 
 def is_row(call, thing):

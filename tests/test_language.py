@@ -2,8 +2,11 @@
 
 import ast
 import builtins
+import inspect
 import os
 import unittest
+
+from openlines.registry import Registry
 
 PACKAGE = os.path.join(os.path.dirname(os.path.dirname(os.path.abspath(__file__))), "openlines")
 
@@ -15,6 +18,36 @@ BUILTINS = (
 ).split()
 LIBRARY = ("heapq", "math", "itertools", "collections", "__future__")
 STATEMENTS_OUT = (ast.Global, ast.AsyncFunctionDef, ast.AsyncFor, ast.AsyncWith, ast.Await, ast.Import)
+NODES_OUT = (ast.GeneratorExp, ast.AnnAssign, ast.NamedExpr)
+WORDS_OUT = (
+    "register mro elements open input law version_info with_traceback add_note type typing enum overload dataclass "
+    "compile copyright credits delattr dir eval exec exit gc globals help id importlib license locals os quit vars"
+).split()
+METHODS = "append extend get index items pop setdefault values".split()
+
+# The interface as the document tells it.
+INTERFACE = {
+    "rows": ["is_body(call, thing)"],
+    "lines": ["merged(lists)", "is_ring(lists, thing)"],
+    "futures": ["future_line(registry, bases)", "future_lists(registry, most)", "targets(registry, kind, call)",
+                "verdict(registry, kind, call, target)", "shows(registry, kind, call, target, paper)"],
+    "chains": ["chain(registry, call, kinds, *, lost=False)",
+               "shows_chain(registry, call, kinds, paper, *, lost=False)"],
+}
+METHODS_OF_A_REGISTRY = [
+    "add(self, name, bases=())", "rebase(self, name, bases)", "drop(self, name)", "set_body(self, kind, call, body)",
+    "clear_body(self, kind, call)", "undo(self)", "kinds(self)", "bases(self, kind)", "line(self, kind)",
+    "calls(self, kind)", "body(self, kind, call)", "below(self, kind)", "has(self, thing)", "deeds(self)",
+    "is_name(thing)", "built(cls, rows)", "first(self, kind, call)", "following(self, kind, definer, call)",
+    "run(self, kind, call)", "cached(self)", "make(self, kind)", "move(self, number, kind)", "discard(self, number)",
+    "objects(self)", "begin(self, number, call)", "step(self, number)", "steps(self, number)", "stop(self, number)",
+    "opened(self)", "stack(self, number)", "rest(self, number)", "difference(self, number, kind)",
+]
+
+
+def told_arguments(node):
+    """The arguments of a function as they are written, without the parentheses around them."""
+    return ast.unparse(node.args)
 
 
 def files():
@@ -96,14 +129,49 @@ class LanguageTest(unittest.TestCase):
                 if isinstance(node, ast.Name) and isinstance(node.ctx, ast.Load):
                     self.assertTrue(node.id in bound or node.id in BUILTINS, (name, node.id))
 
-    def test_each_function_of_the_interface_stands_in_its_file(self):
+    def test_words_that_do_not_occur(self):
+        for name, _, tree in files():
+            for node in ast.walk(tree):
+                words = [getattr(node, field, None) for field in ("id", "attr", "arg", "name")]
+                for word in words:
+                    self.assertNotIn(word, WORDS_OUT, name)
+                self.assertNotIsInstance(node, NODES_OUT, name)
+
+    def test_sets_are_not_stored(self):
+        # A method of the package is called add, so sets are only sorted, measured or asked on the spot.
+        for name, _, tree in files():
+            for node in ast.walk(tree):
+                if isinstance(node, ast.Assign):
+                    self.assertNotIsInstance(node.value, (ast.Set, ast.SetComp), name)
+                    self.assertFalse(isinstance(node.value, ast.Call) and getattr(node.value.func, "id", "") == "set", name)
+
+    def test_methods_of_builtin_values(self):
+        methods = [node.name for _, _, tree in files() for node in ast.walk(tree) if isinstance(node, ast.FunctionDef)]
+        for name, _, tree in files():
+            for node in ast.walk(tree):
+                if isinstance(node, ast.Call) and isinstance(node.func, ast.Attribute):
+                    self.assertIn(node.func.attr, methods + METHODS, name)
+
+    def test_each_part_of_the_interface_stands_in_its_file(self):
         trees = {name[:-3]: tree for name, _, tree in files()}
-        for module, listed in (("rows", {"is_body": ["call", "thing"]}),
-                               ("lines", {"merged": ["lists"], "is_ring": ["lists", "thing"]})):
-            defined = {node.name: [part.arg for part in node.args.args] for node in trees[module].body
+        for module, listed in INTERFACE.items():
+            defined = {node.name: told_arguments(node) for node in trees[module].body
                        if isinstance(node, ast.FunctionDef)}
-            for name in listed:
-                self.assertEqual(defined[name], listed[name])
+            for row in listed:
+                name, _, arguments = row.partition("(")
+                self.assertEqual(defined[name], arguments[:-1])
+
+    def test_each_method_stands_in_the_class(self):
+        trees = {name[:-3]: tree for name, _, tree in files()}
+        made = [node for node in trees["registry"].body if isinstance(node, ast.ClassDef)]
+        self.assertEqual([(node.name, node.bases) for node in made], [("Registry", [])])
+        defined = {node.name: told_arguments(node) for node in made[0].body if isinstance(node, ast.FunctionDef)}
+        for row in METHODS_OF_A_REGISTRY:
+            name, _, arguments = row.partition("(")
+            self.assertEqual(defined[name], arguments[:-1])
+        listed = [row.partition("(")[0] for row in METHODS_OF_A_REGISTRY]
+        self.assertEqual(sorted([name for name in defined if not name.startswith("_")]), sorted(listed))
+        self.assertEqual(list(inspect.signature(Registry).parameters), [])
 
 
 if __name__ == "__main__":

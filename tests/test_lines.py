@@ -8,59 +8,8 @@ import unittest
 
 from openlines.errors import NoMerge
 from openlines.lines import is_ring, merged
+from plain import plain_demands, plain_least_ring, plain_merge, plainly_ring
 from values import ANY_VALUES, replaced
-
-
-def plain_merge(lists):
-    """The merge, word for word as the document tells it; None if there is none."""
-    lists = [list(names) for names in lists]
-    result = []
-    while any(lists):
-        for names in lists:
-            if names and not any([names[0] in other[1:] for other in lists]):
-                break
-        else:
-            return None
-        name = names[0]
-        result.append(name)
-        lists = [[other for other in names if other != name] for names in lists]
-    return tuple(result)
-
-
-def plain_demands(lists):
-    """All demands of the lists, ascending."""
-    return sorted([(names[one], names[two], at) for at, names in enumerate(lists)
-                   for two in range(len(names)) for one in range(two)])
-
-
-def plain_rings(demands, many, begun=()):
-    """Yield all rings of so many demands, ascending."""
-    if len(begun) == many:
-        if begun[-1][1] == begun[0][0]:
-            yield begun
-        return
-    for demand in demands:
-        if not begun or begun[-1][1] == demand[0]:
-            yield from plain_rings(demands, many, begun + (demand,))
-
-
-def plain_least_ring(lists):
-    """The least of the shortest rings; None if there is none."""
-    demands = plain_demands(lists)
-    for many in range(2, len(lists) + 1):
-        for ring in plain_rings(demands, many):
-            return ring
-    return None
-
-
-def plainly_ring(lists, thing):
-    """Whether any value is a ring, told apart from True and 1 by repr."""
-    demands = [repr(demand) for demand in plain_demands(lists)]
-    if not isinstance(thing, tuple) or len(thing) < 2:
-        return False
-    if not all([repr(row) in demands for row in thing]):
-        return False
-    return [row[1] for row in thing] == [row[0] for row in thing[1:] + thing[:1]]
 
 
 def ring_of(lists):

@@ -6,23 +6,8 @@ import unittest
 
 from openlines.names import is_integer, is_name
 from openlines.rows import is_body
+from plain import plainly_name, plainly_row
 from values import ANY_VALUES, replaced
-
-LETTERS = "abcdefghijklmnopqrstuvwxyz"
-
-
-def plainly_name(thing):
-    return isinstance(thing, str) and 0 < len(thing) < 9 and set(thing) <= set(LETTERS)
-
-
-def plainly_row(call, row):
-    if not isinstance(row, tuple):
-        return False
-    if len(row) == 1 and isinstance(row[0], str):
-        return row[0] == "next"
-    if len(row) != 2 or not isinstance(row[0], str) or not plainly_name(row[1]):
-        return False
-    return row[0] == "say" or row[0] == "call" and row[1] > call
 
 
 def plainly_body(call, thing):

@@ -1,5 +1,7 @@
 """Any values, as the document means them, for the tests."""
 
+from openlines.registry import Registry
+
 DEEP = "a"
 for _ in range(12):
     DEEP = (DEEP,)
@@ -15,6 +17,7 @@ ANY_VALUES = (
     (("a", "b", 0),), [("a", "b", 0)], ("next",), ["next"], (("next",),), [("next",)],
     (None, None, None), ((None, None, None), (None, None, None)), ("a", ["b"], (0, [True])),
     DEEP, DEEP_LISTS, (0,) * 5000, ["a"] * 5000, (("a", "b", 0),) * 1000,
+    Registry(), Registry.built((("a", ()),)), [Registry()], (Registry(),), ("a", (Registry(), None)),
 )
 
 

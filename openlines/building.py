@@ -1,0 +1,61 @@
+"""Base lists, and the lines that are built of them."""
+
+from openlines.errors import NoBases, NoLine, NoMerge
+from openlines.lines import merge_or_none, merged
+
+MOST_BASES = 10
+
+
+def wrong_base(thing, kinds):
+    """Return what keeps any value from being a tuple of distinct kinds.
+
+    -1 if it is not a tuple of at most ten items, otherwise the index of the
+    first item that is none of the kinds or occurs earlier; None if it is one.
+    """
+    if not isinstance(thing, tuple) or len(thing) > MOST_BASES:
+        return -1
+    for at, base in enumerate(thing):
+        if base not in kinds or base in thing[:at]:
+            return at
+    return None
+
+
+def check_bases(thing, kinds):
+    """Raise NoBases if any value is not a tuple of at most ten distinct kinds."""
+    at = wrong_base(thing, kinds)
+    if at is not None:
+        raise NoBases(at)
+
+
+def lists_of(bases, lines):
+    """Return the lists of a base list: the lines of the bases and the list itself."""
+    return tuple([lines[base] for base in bases] + [bases])
+
+
+def line_or_none(thing, lines):
+    """Return the future line of any value, None if it is not a future list."""
+    if thing == () or wrong_base(thing, list(lines)) is not None:
+        return None
+    return merge_or_none(lists_of(thing, lines))
+
+
+def new_line(kind, bases, lines):
+    """Return the line of a kind with these bases; raises NoLine if there is none."""
+    try:
+        return (kind,) + merged(lists_of(bases, lines))
+    except NoMerge as error:
+        raise NoLine(kind, error.ring) from None
+
+
+def new_lines(changed, bases, lines):
+    """Return the lines of all kinds after those of the changed kinds are built anew.
+
+    The bases are those of now, the lines those of before. Raises NoLine for
+    the first kind that has no line.
+    """
+    result = {kind: lines[kind] for kind in lines if kind not in changed}
+    while len(result) < len(bases):
+        left = [kind for kind in changed if kind not in result]
+        ready = min([kind for kind in left if all([base in result for base in bases[kind]])])
+        result[ready] = new_line(ready, bases[ready], result)
+    return result
