@@ -464,7 +464,7 @@ def plain_hindrances(plain, kind, call, target):
                 found.append(("between", name))
     if target is not None:
         demands = [demand[:2] for demand in plain_demands((plain.line(target),))]
-        found += [("clash", p, q) for p, q, _ in plain_demands((mine,)) if (q, p) in demands]
+        found += sorted([("clash", p, q) for p, q, _ in plain_demands((mine,)) if (q, p) in demands])
     return found
 
 

@@ -4,7 +4,7 @@ import itertools
 import random
 
 from openlines.registry import Registry
-from plain import Plain
+from plain import Plain, Refused
 
 
 def both(rows, bodies):
@@ -22,7 +22,8 @@ def all_small(names):
     """Yield the rows of all registries of these kinds, of which each is built on earlier ones."""
     choices = []
     for many in range(len(names)):
-        choices.append([picked for length in range(many + 1) for picked in itertools.permutations(names[:many], length)])
+        choices.append([picked for length in range(many + 1)
+                        for picked in itertools.permutations(names[:many], length)])
     for picked in itertools.product(*choices):
         rows = list(zip(names, picked))
         if has_lines(rows):
@@ -34,7 +35,7 @@ def has_lines(rows):
     try:
         for name, bases in rows:
             plain.add(name, bases)
-    except Exception:
+    except Refused:
         return False
     return True
 
@@ -50,7 +51,7 @@ def some_rows(chance, many):
             try:
                 plain.add(name, bases)
                 done = True
-            except Exception:
+            except Refused:
                 done = False
         rows.append((name, bases))
     return rows

@@ -370,8 +370,8 @@ class BodyTest(unittest.TestCase):
 class UndoTest(unittest.TestCase):
     def test_each_edit_is_taken_back(self):
         registry = Registry()
-        deeds = [("add", "d"), ("add", "c", ("d",)), ("set_body", "c", "f", NEXT), ("add", "b"), ("rebase", "c", ("b",)),
-                 ("set_body", "c", "f", ()), ("clear_body", "c", "f"), ("set_body", "d", "f", ()), ("drop", "d"),
+        deeds = [("add", "d"), ("add", "c", ("d",)), ("set_body", "c", "f", NEXT), ("add", "b"),
+                 ("rebase", "c", ("b",)), ("set_body", "c", "f", ()), ("clear_body", "c", "f"), ("set_body", "d", "f", ()), ("drop", "d"),
                  ("add", "d", ("c",)), ("rebase", "d", ("b",)), ("rebase", "d", ("b",))]
         states = []
         for word, *arguments in deeds:

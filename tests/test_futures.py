@@ -239,6 +239,17 @@ class TargetTest(unittest.TestCase):
                              (("e",), False), (("e", "c", "b"), False), (("e", "d", "b"), False), ((), False)):
             self.assertIs(shows(registry, "e", "f", "b", ("can", bases)), holds)
 
+    def test_the_least_clash(self):
+        rows = [("x", ()), ("y", ()), ("z", ()), ("a", ("z", "y", "x")), ("b", ("x", "y", "z")), ("c", ("y", "z", "x"))]
+        registry, plain = both(rows, [("a", "f"), ("b", "f"), ("c", "f")])
+        self.assertEqual(verdict(registry, "a", "f", "b"), ("clash", "y", "x"))
+        self.assertEqual(verdict(registry, "b", "f", "a"), ("clash", "x", "y"))
+        self.assertEqual(verdict(registry, "b", "f", "c"), ("clash", "x", "y"))
+        self.assertEqual(verdict(registry, "c", "f", "b"), ("clash", "y", "x"))
+        for p, q, holds in (("y", "x", True), ("z", "x", True), ("z", "y", True), ("x", "y", False), ("a", "x", False)):
+            self.assertIs(shows(registry, "a", "f", "b", ("clash", p, q)), holds)
+        self.check_registry(registry, plain)
+
     def test_a_call_without_bodies(self):
         registry, _ = both([("a", ()), ("b", ())], [])
         self.assertEqual(targets(registry, "a", "f"), [(None, ("a",))])

@@ -148,7 +148,8 @@ class HistoryTest(unittest.TestCase):
         seen = {}
         for seed in range(100):
             seen.update(self.history(1000 + seed, 80, words))
-        for word in words + ["NoLine", "InUse"] + ["dropped by " + word for word in set(words) - {"add"} - set(LOOKUPS)]:
+        dropped = ["dropped by " + word for word in set(words) - {"add"} - set(LOOKUPS)]
+        for word in words + ["NoLine", "InUse"] + dropped:
             self.assertIn(word, seen)
         self.assertNotIn("dropped by add", seen)
 

@@ -143,7 +143,8 @@ class LanguageTest(unittest.TestCase):
             for node in ast.walk(tree):
                 if isinstance(node, ast.Assign):
                     self.assertNotIsInstance(node.value, (ast.Set, ast.SetComp), name)
-                    self.assertFalse(isinstance(node.value, ast.Call) and getattr(node.value.func, "id", "") == "set", name)
+                    called = node.value.func if isinstance(node.value, ast.Call) else None
+                    self.assertNotEqual(getattr(called, "id", ""), "set", name)
 
     def test_methods_of_builtin_values(self):
         methods = [node.name for _, _, tree in files() for node in ast.walk(tree) if isinstance(node, ast.FunctionDef)]

@@ -94,7 +94,8 @@ class RunTest(unittest.TestCase):
         registry.set_body("d", "f", (("call", "g"), ("say", "end")))
         registry.set_body("a", "g", (("say", "here"), ("next",)))
         registry.set_body("c", "g", say("there"))
-        self.assertEqual(registry.run("a", "f")[1:4], [("say", "a", "here"), ("say", "c", "there"), ("say", "d", "end")])
+        self.assertEqual(registry.run("a", "f")[1:4],
+                         [("say", "a", "here"), ("say", "c", "there"), ("say", "d", "end")])
         self.assertEqual(registry.run("d", "f"), [("lost", "d", "g"), ("say", "d", "end")])
 
     def test_an_empty_body(self):
@@ -291,7 +292,8 @@ class CacheTest(unittest.TestCase):
         self.fill(registry)
         before = registry.cached()
         for word, arguments in (("add", ("a",)), ("rebase", ("d", ("a",))), ("drop", ("d",)),
-                                ("set_body", ("a", "f", None)), ("clear_body", ("a", "g")), ("rebase", ("b", ("c", "d", "c")))):
+                                ("set_body", ("a", "f", None)), ("clear_body", ("a", "g")),
+                                ("rebase", ("b", ("c", "d", "c")))):
             self.assertNotEqual(told(getattr(registry, word), *arguments)[0], "returned")
         self.assertEqual(registry.cached(), before)
 

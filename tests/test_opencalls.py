@@ -167,7 +167,8 @@ class OpenCallTest(unittest.TestCase):
             (("enter", "b", "f"), [("b", "f", 0)]), (("say", "b", "one"), [("b", "f", 1)]),
             (("enter", "c", "f"), [("b", "f", 2), ("c", "f", 0)]), (("lost", "c", "f"), [("b", "f", 2), ("c", "f", 1)]),
             (("say", "c", "three"), [("b", "f", 2), ("c", "f", 2)]), (("leave", "c", "f"), [("b", "f", 2)]),
-            (("enter", "d", "g"), [("b", "f", 3), ("d", "g", 0)]), (("say", "d", "four"), [("b", "f", 3), ("d", "g", 1)]),
+            (("enter", "d", "g"), [("b", "f", 3), ("d", "g", 0)]),
+            (("say", "d", "four"), [("b", "f", 3), ("d", "g", 1)]),
             (("leave", "d", "g"), [("b", "f", 3)]), (("say", "b", "two"), [("b", "f", 4)]),
         ]
         for event, stack in steps:
@@ -301,10 +302,11 @@ class OpenCallTest(unittest.TestCase):
     def test_each_deed_is_taken_back(self):
         registry = sample()
         states = []
-        for word, arguments in [("make", ("b",)), ("begin", (0, "f")), ("begin", (1, "f")), ("step", (0,)), ("step", (1,)),
-                                ("step", (0,)), ("move", (0, "b")), ("set_body", ("d", "f", NEXT)), ("step", (0,)),
-                                ("step", (0,)), ("stop", (1,)), ("move", (1, "a")), ("discard", (1,)), ("begin", (0, "h")),
-                                ("step", (2,)), ("step", (0,)), ("step", (0,)), ("step", (0,))]:
+        deeds = [("make", ("b",)), ("begin", (0, "f")), ("begin", (1, "f")), ("step", (0,)), ("step", (1,)),
+                 ("step", (0,)), ("move", (0, "b")), ("set_body", ("d", "f", NEXT)), ("step", (0,)),
+                 ("step", (0,)), ("stop", (1,)), ("move", (1, "a")), ("discard", (1,)), ("begin", (0, "h")),
+                 ("step", (2,)), ("step", (0,)), ("step", (0,)), ("step", (0,))]
+        for word, arguments in deeds:
             states.append((kept(registry), registry.deeds))
             getattr(registry, word)(*arguments)
         while states:
