@@ -27,6 +27,13 @@ def check_bases(thing, kinds):
         raise NoBases(at)
 
 
+def check_future_bases(registry, thing):
+    """Raise NoBases if any value is not a tuple of one to ten distinct kinds of a registry."""
+    if thing == ():
+        raise NoBases(-1)
+    check_bases(thing, registry.kinds())
+
+
 def lists_of(bases, lines):
     """Return the lists of a base list: the lines of the bases and the list itself."""
     return tuple([lines[base] for base in bases] + [bases])

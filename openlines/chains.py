@@ -1,8 +1,8 @@
 """Whether kinds can be a chain in lines that are not built yet."""
 
 from openlines.building import line_or_none, lists_of
-from openlines.errors import NoChain, NoMerge
-from openlines.lines import is_ring, is_road, merged
+from openlines.errors import NoChain
+from openlines.lines import any_ring, is_ring, is_road, merge_or_none
 from openlines.lookups import next_kind
 from openlines.names import check_call
 from openlines.roads import road_to
@@ -14,21 +14,40 @@ MOST_OF_A_CHAIN = 10
 def chain(registry, call, kinds, *, lost=False):
     """Return a paper about a chain: a future list in which it is possible, or why there is none."""
     _check_chain(registry, call, kinds)
+    lines = lines_of(registry)
     bodies = bodies_of(registry, call)
-    lists = lists_of(kinds, lines_of(registry))
-    try:
-        line = merged(lists)
-    except NoMerge as error:
-        return ("ring", error.ring)
-    others = [name for name in line if (name, call) in bodies and name not in kinds]
-    for other in others:
-        back = road_to(lists, [other], kinds)
-        if back is not None:
-            return ("between", road_to(lists, kinds, [other]), back)
-    if lost and others:
+    bases = bases_of_chain(kinds, call, lines, bodies)
+    if bases is not None and (bases == kinds or not lost):
+        return ("can", bases)
+    lists = lists_of(kinds, lines)
+    ring = any_ring(lists)
+    if ring is not None:
+        return ("ring", ring)
+    others = others_of(kinds, call, lines, bodies)
+    if bases is not None:
         return ("after", road_to(lists, kinds, others))
-    # No road leads from the others back to the chain, so all of them can stand behind it.
-    return ("can", kinds + tuple(others))
+    back = road_to(lists, others, kinds)
+    return ("between", road_to(lists, kinds, [back[0][0]]), back)
+
+
+def bases_of_chain(kinds, call, lines, bodies):
+    """Return a future list in whose line a chain is possible, None if there is none.
+
+    Behind the chain it has all other kinds with a body that every line with
+    the chain has. So the chain can end lost exactly if it has no others.
+    """
+    others = others_of(kinds, call, lines, bodies)
+    last = tuple([(kinds[-1], other) for other in others])
+    line = merge_or_none(lists_of(kinds, lines) + last)
+    if line is None:
+        return None
+    return kinds + tuple([name for name in line if name in others])
+
+
+def others_of(kinds, call, lines, bodies):
+    """Return the kinds with a body that are in the lines of a chain, but not in the chain."""
+    return [name for name in lines if (name, call) in bodies and name not in kinds
+            and any([name in lines[kind] for kind in kinds])]
 
 
 def shows_chain(registry, call, kinds, paper, *, lost=False):

@@ -1,8 +1,7 @@
 """What can be next behind a kind in lines that are not built yet."""
 
-from openlines.building import check_bases, line_or_none, lists_of
-from openlines.errors import NoBases
-from openlines.lines import merge_or_none, merged
+from openlines.building import check_future_bases, line_or_none, lists_of
+from openlines.lines import merge_or_none, merged, stands_ahead
 from openlines.lookups import next_kind
 from openlines.names import check_call
 from openlines.views import bodies_of, check_kind, lines_of
@@ -15,9 +14,7 @@ def future_line(registry, bases):
 
     Raises NoBases, and NoMerge with the least of the shortest rings.
     """
-    if bases == ():
-        raise NoBases(-1)
-    check_bases(bases, registry.kinds())
+    check_future_bases(registry, bases)
     return merged(lists_of(bases, lines_of(registry)))
 
 
@@ -65,29 +62,34 @@ def targets(registry, kind, call):
     """Return (target, least list) for everything that can be next behind a kind, None last."""
     check_kind(registry, kind)
     check_call(call)
-    possible = [target for target in registry.kinds() + [None] if not _hindrances(registry, kind, call, target)]
-    found = _least_lists(registry, kind, call, possible)
+    lines = lines_of(registry)
+    bodies = bodies_of(registry, call)
+    possible = [target for target in registry.kinds() + [None]
+                if first_hindrance(kind, call, target, lines, bodies) is None]
+    found = _least_lists(kind, call, possible, lines, bodies)
     return [(target, found[target]) for target in possible]
 
 
 def verdict(registry, kind, call, target):
     """Return a paper about a target: its least list, or the first reason why it never can be next."""
     _check_question(registry, kind, call, target)
-    hindrances = _hindrances(registry, kind, call, target)
-    if hindrances:
-        return hindrances[0]
-    return ("can", _least_lists(registry, kind, call, [target])[target])
+    lines = lines_of(registry)
+    bodies = bodies_of(registry, call)
+    paper = first_hindrance(kind, call, target, lines, bodies)
+    if paper is not None:
+        return paper
+    return ("can", _least_lists(kind, call, [target], lines, bodies)[target])
 
 
 def shows(registry, kind, call, target, paper):
     """Return whether any value is a paper about a target that holds."""
     _check_question(registry, kind, call, target)
+    lines = lines_of(registry)
+    bodies = bodies_of(registry, call)
     if isinstance(paper, tuple) and len(paper) == 2 and paper[0] == "can":
-        line = line_or_none(paper[1], lines_of(registry))
-        if line is None or kind not in line:
-            return False
-        return next_kind(line, kind, call, bodies_of(registry, call)) == target
-    return paper in _hindrances(registry, kind, call, target)
+        line = line_or_none(paper[1], lines)
+        return line is not None and kind in line and next_kind(line, kind, call, bodies) == target
+    return hinders(kind, call, target, paper, lines, bodies)
 
 
 def _check_question(registry, kind, call, target):
@@ -98,10 +100,8 @@ def _check_question(registry, kind, call, target):
         check_kind(registry, target)
 
 
-def _least_lists(registry, kind, call, wanted):
+def _least_lists(kind, call, wanted, lines, bodies):
     """Return the least list of each wanted target, a dict. Each of them must have one."""
-    lines = lines_of(registry)
-    bodies = bodies_of(registry, call)
     found = {}
     for many in range(1, MOST_OF_A_LEAST_LIST + 1):
         left = [target for target in wanted if target not in found]
@@ -116,26 +116,49 @@ def _least_lists(registry, kind, call, wanted):
     return found
 
 
-def _hindrances(registry, kind, call, target):
-    """Return all papers that hold and show that a target never can be next, in their order."""
-    found = []
-    bodies = bodies_of(registry, call)
-    mine = registry.line(kind)
-    behind = [name for name in mine[1:] if (name, call) in bodies]
+def first_hindrance(kind, call, target, lines, bodies):
+    """Return the first paper that shows why a target never can be next behind a kind, None if it can be."""
+    mine = lines[kind]
+    between = next_kind(mine, kind, call, bodies)
     if target is None:
-        return [("between", name) for name in behind]
-    theirs = registry.line(target)
+        return None if between is None else ("between", between)
     if (target, call) not in bodies:
-        found.append(("no body",))
-    if kind in theirs:
-        found.append(("behind",))
-    if target in mine:
-        found.extend([("between", name) for name in behind if mine.index(name) < mine.index(target)])
-    return found + _clashes(mine, theirs)
+        return ("no body",)
+    if kind in lines[target]:
+        return ("behind",)
+    if stands_ahead(mine, between, target):
+        return ("between", between)
+    return _least_clash(mine, lines[target])
 
 
-def _clashes(mine, theirs):
-    """Return all papers that two lines demand two names in different orders, ascending."""
+def _least_clash(mine, theirs):
+    """Return the least paper that two lines demand two names in different orders, or None."""
     both = [name for name in mine if name in theirs]
-    return sorted([("clash", first, second) for at, first in enumerate(both) for second in both[at + 1:]
-                   if theirs.index(second) < theirs.index(first)])
+    return min([("clash", first, second) for at, first in enumerate(both) for second in both[at + 1:]
+                if stands_ahead(theirs, second, first)], default=None)
+
+
+def hinders(kind, call, target, paper, lines, bodies):
+    """Return whether any value is a paper that holds and shows why a target never can be next behind a kind."""
+    if not isinstance(paper, tuple) or not 1 <= len(paper) <= 3:
+        return False
+    word = paper[0]
+    if len(paper) == 2:
+        return word == "between" and _is_between(kind, call, target, paper[1], lines, bodies)
+    if target is None:
+        return False
+    if len(paper) == 3:
+        return (word == "clash" and stands_ahead(lines[kind], paper[1], paper[2])
+                and stands_ahead(lines[target], paper[2], paper[1]))
+    if word == "no body":
+        return (target, call) not in bodies
+    return word == "behind" and kind in lines[target]
+
+
+def _is_between(kind, call, target, thing, lines, bodies):
+    """Return whether any value is a kind with a body that stands behind a kind, and ahead of a target."""
+    mine = lines[kind]
+    # What is in the line is a name, so the bodies can be asked for it.
+    if thing not in mine[1:] or (thing, call) not in bodies:
+        return False
+    return target is None or stands_ahead(mine, thing, target)

@@ -17,16 +17,25 @@ def merged(lists):
 
 def merge_or_none(lists):
     """Return the merge of the lists, a tuple, None if they have none."""
-    behind = _times_behind(lists)
-    starts = [0] * len(lists)
-    result = []
-    while len(result) < len(behind):
-        name = _free_name(lists, starts, behind)
-        if name is None:
-            return None
-        result.append(name)
-        _take(name, lists, starts, behind)
-    return tuple(result)
+    names, left = _taken(lists)
+    return None if left else names
+
+
+def any_ring(lists):
+    """Return a ring of the lists, perhaps not a shortest one, None if they have a merge."""
+    firsts = [names[0] for names in _taken(lists)[1]]
+    if not firsts:
+        return None
+    # None of the first names can be taken, so each stands behind another one and the way back comes round.
+    ways = {}
+    name = firsts[0]
+    while name not in ways:
+        ways[name] = _demand_on(name, lists, firsts)
+        name = ways[name][0]
+    ring = (ways[name],)
+    while ring[0][0] != name:
+        ring = (ways[ring[0][0]],) + ring
+    return ring
 
 
 def is_ring(lists, thing):
@@ -51,43 +60,56 @@ def is_demand(lists, thing):
     first, second, at = thing
     if not is_integer(at) or not 0 <= at < len(lists):
         return False
-    names = lists[at]
-    if first not in names or second not in names:
-        return False
-    return names.index(first) < names.index(second)
+    return stands_ahead(lists[at], first, second)
 
 
-def _times_behind(lists):
-    """Return for each name how many lists have it behind their first name."""
-    behind = {}
+def stands_ahead(names, first, second):
+    """Return whether any values are two of the names, the first one ahead of the second one."""
+    return first in names and second in names and names.index(first) < names.index(second)
+
+
+def _taken(lists):
+    """Return the names that can be taken, a tuple, and what is left of the lists behind that."""
+    taken = ()
+    left = [names for names in lists if names]
+    while len(left) > 1:
+        name = _free_name(left)
+        if name is None:
+            return taken, left
+        taken = taken + (name,)
+        further = []
+        for names in left:
+            if names[0] != name:
+                further.append(names)
+            elif len(names) > 1:
+                further.append(names[1:])
+        left = further
+    # One list alone is taken as it is.
+    for names in left:
+        taken = taken + names
+    return taken, []
+
+
+def _free_name(lists):
+    """Return the name that is taken next, None if no name can be taken. No list is empty."""
     for names in lists:
-        for name in names[:1]:
-            behind.setdefault(name, 0)
-        for name in names[1:]:
-            behind[name] = behind.get(name, 0) + 1
-    return behind
-
-
-def _free_name(lists, starts, behind):
-    """Return the name that is taken next, None if no name can be taken.
-
-    What is left of a list begins at its start.
-    """
-    for names, start in zip(lists, starts):
-        if start < len(names) and behind[names[start]] == 0:
-            return names[start]
+        name = names[0]
+        for other in lists:
+            if name in other and name != other[0]:
+                break
+        else:
+            return name
     return None
 
 
-def _take(name, lists, starts, behind):
-    """Remove a free name from what is left of the lists."""
+def _demand_on(name, lists, firsts):
+    """Return a demand of the lists that one of the first names stands before a name."""
     for at, names in enumerate(lists):
-        start = starts[at]
-        # A free name is behind no first name, so only the starts can be it.
-        if start < len(names) and names[start] == name:
-            starts[at] = start + 1
-            for other in names[start + 1:start + 2]:
-                behind[other] = behind[other] - 1
+        if name in names:
+            for first in names[:names.index(name)]:
+                if first in firsts:
+                    return (first, name, at)
+    return None
 
 
 def _least_ring(lists):

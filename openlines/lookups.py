@@ -3,6 +3,8 @@
 The bodies are a dict whose keys are tuples (kind, call).
 """
 
+from openlines.rows import hands_on
+
 
 def first_kind(line, call, bodies):
     """Return the first kind of a line, or of a part of it, that has a body for the call, or None."""
@@ -15,6 +17,17 @@ def first_kind(line, call, bodies):
 def next_kind(line, definer, call, bodies):
     """Return the first kind behind a definer of the line that has a body for the call, or None."""
     return first_kind(line[line.index(definer) + 1:], call, bodies)
+
+
+def course_in(line, kind, call, bodies):
+    """Return the course of a kind with a body in a line that has the kind, a tuple."""
+    course = (kind,)
+    for name in line[line.index(kind) + 1:]:
+        if not hands_on(bodies[(course[-1], call)]):
+            return course
+        if (name, call) in bodies:
+            course = course + (name,)
+    return course
 
 
 def is_still_right(key, answer, lines, bodies):

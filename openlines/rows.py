@@ -10,6 +10,11 @@ def is_body(call, thing):
     return is_name(call) and wrong_row(call, thing) is None
 
 
+def hands_on(body):
+    """Return whether a body hands the call on."""
+    return ("next",) in body
+
+
 def wrong_row(call, thing):
     """Return what keeps any value from being a body for the call name.
 

@@ -492,3 +492,145 @@ def plainly_shows_chain(plain, futures, call, kinds, paper, lost):
         there, back = paper[1:]
         return there[0][0] in kinds and there[-1][1] in others and back[0][0] == there[-1][1] and back[-1][1] in kinds
     return False
+
+
+def plain_course(plain, line, kind, call):
+    """The course of a kind in a line, and whether it ends lost."""
+    course = [kind]
+    while ("next",) in plain.rows_of[course[-1], call]:
+        found = next_in(plain, line, course[-1], call)
+        if found is None:
+            return (tuple(course), True)
+        course.append(found)
+    return (tuple(course), False)
+
+
+def plain_courses(plain, futures, kind, call):
+    """All courses of a kind, as all future lists tell them, ascending."""
+    return sorted(set([plain_course(plain, line, kind, call) for _, line in futures if kind in line]))
+
+
+def plain_seals(plain, futures, kind, call):
+    """The seals of a kind, as all its courses tell them, in the order of its line."""
+    found = [course for course, _ in plain_courses(plain, futures, kind, call)]
+    return [name for name in plain.line(kind) if name != kind and all([name in course for course in found])]
+
+
+def plain_strays(plain, kind, call):
+    """The kinds with a body that does not hand on that are not in the line of a kind, ascending."""
+    return [name for name in plain.kinds() if ("next",) not in plain.rows_of.get((name, call), (("next",),))
+            and name not in plain.line(kind)]
+
+
+def plainly_shows_seal(plain, futures, kind, call, target, paper):
+    """Whether a tuple of two is a paper about the seal that holds."""
+    if repr(paper[0]) == "'skipped'":
+        lines = [line for bases, line in futures if repr(bases) == repr(paper[1]) and kind in line]
+        return any([target not in plain_course(plain, line, kind, call)[0] for line in lines])
+    mine = plain.line(kind)
+    if repr(paper[0]) != "'seal'" or target not in mine[1:] or (target, call) not in plain.rows_of:
+        return False
+    for name in mine[:mine.index(target)]:
+        if ("next",) not in plain.rows_of.get((name, call), (("next",),)):
+            return False
+    strays = plain_strays(plain, kind, call)
+    if type(paper[1]) is not tuple or not all([type(row) is tuple and len(row) == 2 for row in paper[1]]):
+        return False
+    if repr([name for name, _ in paper[1]]) != repr(strays):
+        return False
+    for name, verdict in paper[1]:
+        good = [row for row in plain_hindrances(plain, kind, call, name) if row[0] in ("behind", "clash")]
+        if repr(verdict) not in [repr(row) for row in good]:
+            return False
+    return True
+
+
+def plain_parts(bases, many):
+    """All parts with so many kinds, ascending."""
+    return sorted(itertools.combinations(bases, many))
+
+
+def plain_kept(plain, futures, bases):
+    """The part that is kept."""
+    for many in range(len(bases), 0, -1):
+        for part in plain_parts(bases, many):
+            if part in futures:
+                return part
+
+
+def plainly_shows_kept(plain, futures, bases, paper):
+    """Whether a tuple of two is a part and all its rings; futures are a dict."""
+    part, rings = paper
+    if repr(part) not in [repr(row) for many in range(1, len(bases) + 1) for row in plain_parts(bases, many)]:
+        return False
+    if part not in futures or type(rings) is not tuple:
+        return False
+    if not all([type(row) is tuple and len(row) == 2 for row in rings]):
+        return False
+    if repr([row[0] for row in rings]) != repr(plain_parts(bases, len(part) + 1)):
+        return False
+    return all([plainly_ring(plain.lists(greater), ring) for greater, ring in rings])
+
+
+def plain_order(futures, bases):
+    """The least order of the kinds that is a future list; None if there is none."""
+    for order in sorted(itertools.permutations(bases)):
+        if order in futures:
+            return order
+    return None
+
+
+def plain_telling(one, other):
+    """The least of the shortest future lists that only one of two registries has: sets of future lists."""
+    found = sorted(one ^ other, key=lambda bases: (len(bases), bases))
+    return found[0] if found else None
+
+
+def plain_text(plain):
+    """The kinds and bodies of a registry, written."""
+    lines, written = [], []
+    while len(written) < len(plain.bases_of):
+        kind = min([name for name in set(plain.bases_of) - set(written) if set(plain.bases_of[name]) <= set(written)])
+        written.append(kind)
+        lines.append(" ".join(("kind", kind) + plain.bases_of[kind]))
+        for call in plain.calls(kind):
+            rows = ", ".join([" ".join(row) for row in plain.rows_of[kind, call]])
+            lines.append("body " + call + " " + (rows if rows else "-"))
+    return "\n".join(lines)
+
+
+def plain_wrong_row(call, string):
+    """What NoText of read_body tells; None if the string is a body."""
+    if string == "-":
+        return None
+    rows = string.split(", ")
+    for at, row in enumerate(rows):
+        if at == 6:
+            return 6
+        found = re.fullmatch("next|say [a-z]{1,8}|call ([a-z]{1,8})", row)
+        if found is None or row[:4] == "call" and not found[1] > call:
+            return at
+    return None
+
+
+def plain_wrong_line(string):
+    """What NoText of read_registry tells; None if the string writes a registry."""
+    plain, kind = Plain(), None
+    lines = string.split("\n") if string else []
+    for at, line in enumerate(lines):
+        words = line.split(" ")
+        try:
+            if re.fullmatch("kind( [a-z]+)+", line):
+                plain.add(words[1], tuple(words[2:]))
+                kind = words[1]
+            elif re.fullmatch("body [a-z]+ .+", line) and kind is not None:
+                rows = line.split(" ", 2)[2]
+                if plain_wrong_row(words[1], rows) is not None:
+                    return at
+                parts = rows.split(", ") if rows != "-" else []
+                plain.set_body(kind, words[1], tuple([tuple(part.split(" ")) for part in parts]))
+            else:
+                return at
+        except Refused:
+            return at
+    return None if plain_text(plain) == string else len(lines)

@@ -7,14 +7,18 @@ from openlines.registry import Registry
 from plain import Plain, Refused
 
 
-def both(rows, bodies):
-    """A registry and the same one word for word: rows of (name, bases), and bodies (kind, call)."""
+def both(rows, bodies, settled=()):
+    """A registry and the same one word for word: rows of (name, bases), and bodies (kind, call).
+
+    The bodies hand on, but for those of the settled kinds.
+    """
     registry, plain = Registry.built(rows), Plain()
     for name, bases in rows:
         plain.add(name, bases)
     for kind, call in bodies:
-        registry.set_body(kind, call, (("next",),))
-        plain.set_body(kind, call, (("next",),))
+        body = (("say", "end"),) if kind in settled else (("next",),)
+        registry.set_body(kind, call, body)
+        plain.set_body(kind, call, body)
     return registry, plain
 
 
@@ -57,8 +61,8 @@ def some_rows(chance, many):
     return rows
 
 
-def some_registries(seed, many, kinds, calls=("f",), most=6):
-    """Yield so many random registries, each with the same one word for word."""
+def some_registries(seed, many, kinds, calls=("f",), most=6, share=0):
+    """Yield so many random registries, each with the same one word for word; a share of the bodies is settled."""
     chance = random.Random(seed)
     for _ in range(many):
         rows = some_rows(chance, kinds)
@@ -66,7 +70,7 @@ def some_registries(seed, many, kinds, calls=("f",), most=6):
         for call in calls:
             definers = chance.sample([name for name, _ in rows], chance.randrange(min(most, kinds) + 1))
             bodies += [(kind, call) for kind in definers]
-        yield both(rows, bodies)
+        yield both(rows, bodies, [name for name, _ in rows if chance.random() < share])
 
 
 def of_many_bodies(last):

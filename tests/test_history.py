@@ -3,9 +3,15 @@
 import random
 import unittest
 
+from openlines.chains import chain
+from openlines.futures import future_lists, targets, verdict
 from openlines.registry import Registry
+from openlines.repairs import kept as kept_part
+from openlines.repairs import ordered, telling
+from openlines.runs import courses, longest, lost, seal_paper, seals
+from openlines.texts import read_registry, show_registry
 from plain import Plain
-from told import read, told
+from told import kept, read, told
 from values import ANY_VALUES
 
 KINDS = ["a", "b", "c", "d", "e", "abcdefgh"]
@@ -87,6 +93,27 @@ def afresh(registry):
     return made
 
 
+def all_courses(registry, kind, call):
+    return list(courses(registry, kind, call))
+
+
+def asked(registry):
+    """All that the future tells of a registry."""
+    kinds = registry.kinds()
+    answers = [list(future_lists(registry, 2)), show_registry(registry)]
+    for kind in kinds:
+        answers.append(targets(registry, kind, "f"))
+        answers += [told(function, registry, kind, "f") for function in (all_courses, longest, lost, seals)]
+        for other in kinds:
+            answers.append(verdict(registry, kind, "f", other))
+            answers.append(told(seal_paper, registry, kind, "f", other))
+            answers += [told(chain, registry, "f", (kind, other), lost=ends) for ends in (False, True)]
+    if kinds:
+        answers += [function(registry, tuple(kinds)) for function in (kept_part, ordered)]
+        answers += [function(registry, tuple(kinds[::-1])) for function in (kept_part, ordered)]
+    return answers
+
+
 class HistoryTest(unittest.TestCase):
     def history(self, seed, many, words):
         """Do some deeds and lookups; return the words that were done and the errors that were raised."""
@@ -119,6 +146,12 @@ class HistoryTest(unittest.TestCase):
             self.assertEqual(made.line(kind), registry.line(kind))
             for call in CALLS:
                 self.assertEqual(told(made.run, kind, call), told(registry.run, kind, call))
+        # The questions about the future change nothing, and the history does not matter for them.
+        before = kept(registry)
+        self.assertEqual(asked(made), asked(registry))
+        self.assertIs(telling(made, registry), None)
+        self.assertEqual(asked(read_registry(show_registry(registry))), asked(registry))
+        self.assertEqual(kept(registry), before)
         for key, answer in registry.cached():
             self.assertEqual((made.first if len(key) == 2 else made.following)(*key), answer)
 
@@ -131,6 +164,8 @@ class HistoryTest(unittest.TestCase):
                     model.following(kind, kind, "g")
             self.assertEqual(registry.undo(), plain.undo())
             self.assertEqual(registry.cached(), plain.cached())
+            if registry.deeds % 20 == 0:
+                self.check_afresh(registry)
         self.assertEqual(registry, Registry())
         self.assertEqual((registry.kinds(), registry.objects(), registry.opened(), registry.cached()), ([], [], [], []))
         self.assertEqual(told(registry.undo), ("Nothing", {}))

@@ -6,6 +6,7 @@ import inspect
 import os
 import unittest
 
+from openlines.desk import Desk
 from openlines.registry import Registry
 
 PACKAGE = os.path.join(os.path.dirname(os.path.dirname(os.path.abspath(__file__))), "openlines")
@@ -23,7 +24,9 @@ WORDS_OUT = (
     "register mro elements open input law version_info with_traceback add_note type typing enum overload dataclass "
     "compile copyright credits delattr dir eval exec exit gc globals help id importlib license locals os quit vars"
 ).split()
-METHODS = "append extend get index items pop setdefault values".split()
+METHODS = (
+    "append extend get index isascii isdigit items join pop remove setdefault split update values"
+).split()
 
 # The interface as the document tells it.
 INTERFACE = {
@@ -33,7 +36,15 @@ INTERFACE = {
                 "verdict(registry, kind, call, target)", "shows(registry, kind, call, target, paper)"],
     "chains": ["chain(registry, call, kinds, *, lost=False)",
                "shows_chain(registry, call, kinds, paper, *, lost=False)"],
+    "runs": ["courses(registry, kind, call)", "longest(registry, kind, call)", "lost(registry, kind, call)",
+             "seals(registry, kind, call)", "seal_paper(registry, kind, call, target)",
+             "shows_seal(registry, kind, call, target, paper)"],
+    "repairs": ["kept(registry, bases)", "shows_kept(registry, bases, paper)", "ordered(registry, bases)",
+                "telling(one, other)"],
+    "texts": ["show_body(body)", "read_body(call, string)", "show_registry(registry)", "read_registry(string)",
+              "show_event(event)"],
 }
+METHODS_OF_A_DESK = ["__init__(self, string='')", "say(self, command)", "say_all(self, *commands, stop=True)"]
 METHODS_OF_A_REGISTRY = [
     "add(self, name, bases=())", "rebase(self, name, bases)", "drop(self, name)", "set_body(self, kind, call, body)",
     "clear_body(self, kind, call)", "undo(self)", "kinds(self)", "bases(self, kind)", "line(self, kind)",
@@ -162,17 +173,22 @@ class LanguageTest(unittest.TestCase):
                 name, _, arguments = row.partition("(")
                 self.assertEqual(defined[name], arguments[:-1])
 
-    def test_each_method_stands_in_the_class(self):
+    def check_class(self, module, word, methods):
         trees = {name[:-3]: tree for name, _, tree in files()}
-        made = [node for node in trees["registry"].body if isinstance(node, ast.ClassDef)]
-        self.assertEqual([(node.name, node.bases) for node in made], [("Registry", [])])
+        made = [node for node in trees[module].body if isinstance(node, ast.ClassDef)]
+        self.assertEqual([(node.name, node.bases) for node in made], [(word, [])])
         defined = {node.name: told_arguments(node) for node in made[0].body if isinstance(node, ast.FunctionDef)}
-        for row in METHODS_OF_A_REGISTRY:
+        for row in methods:
             name, _, arguments = row.partition("(")
             self.assertEqual(defined[name], arguments[:-1])
-        listed = [row.partition("(")[0] for row in METHODS_OF_A_REGISTRY]
+        listed = [row.partition("(")[0] for row in methods if not row.startswith("_")]
         self.assertEqual(sorted([name for name in defined if not name.startswith("_")]), sorted(listed))
+
+    def test_each_method_stands_in_the_class(self):
+        self.check_class("registry", "Registry", METHODS_OF_A_REGISTRY)
         self.assertEqual(list(inspect.signature(Registry).parameters), [])
+        self.check_class("desk", "Desk", METHODS_OF_A_DESK)
+        self.assertEqual(list(inspect.signature(Desk).parameters), ["string"])
 
 
 if __name__ == "__main__":

@@ -1,5 +1,6 @@
 """Any values, as the document means them, for the tests."""
 
+from openlines.desk import Desk
 from openlines.registry import Registry
 
 DEEP = "a"
@@ -10,7 +11,8 @@ DEEP_LISTS = []
 for _ in range(11):
     DEEP_LISTS = [DEEP_LISTS]
 
-ANY_VALUES = (
+# A desk equals nothing but itself, so these can be compared with copies.
+VALUES_BUT_DESKS = (
     0, 1, -1, 7, 10 ** 59, -(10 ** 59), True, False, None,
     "", "a", "b", "next", "say", "call", "A", "a b", "\n", "~" * 3000,
     (), [], ((),), [[]], ("a",), ["a"], ("a", "b"), ("a", "b", 0), ["a", "b", 0],
@@ -19,6 +21,7 @@ ANY_VALUES = (
     DEEP, DEEP_LISTS, (0,) * 5000, ["a"] * 5000, (("a", "b", 0),) * 1000,
     Registry(), Registry.built((("a", ()),)), [Registry()], (Registry(),), ("a", (Registry(), None)),
 )
+ANY_VALUES = VALUES_BUT_DESKS + (Desk(), (Desk("kind a"), "a"))
 
 
 def replaced(thing):

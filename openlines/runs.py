@@ -1,0 +1,144 @@
+"""Courses of calls in lines that are not built yet: the longest, those that end lost, and the seals."""
+
+from openlines.building import line_or_none
+from openlines.chains import bases_of_chain
+from openlines.errors import Absent, NoKind
+from openlines.futures import first_hindrance, hinders
+from openlines.lookups import course_in
+from openlines.names import check_call
+from openlines.rows import hands_on
+from openlines.views import bodies_of, check_kind, lines_of
+
+
+def courses(registry, kind, call):
+    """Yield (course, ends) for all courses of a kind in future lines, ascending.
+
+    All that is asked of the registry is asked ahead of the first item.
+    """
+    _check_start(registry, kind, call)
+    start = (kind,)
+    lines = lines_of(registry)
+    bodies = bodies_of(registry, call)
+    for course, ends, _ in courses_behind(start, call, lines, bodies):
+        yield (course, ends)
+
+
+def courses_behind(begun, call, lines, bodies):
+    """Yield (course, ends, bases) for all courses that begin with a chain, ascending; a future list with each."""
+    bases = bases_of_chain(begun, call, lines, bodies)
+    if bases is None:
+        return
+    if not hands_on(bodies[(begun[-1], call)]):
+        yield (begun, False, bases)
+        return
+    if bases == begun:
+        yield (begun, True, bases)
+    for kind in sorted(lines):
+        if (kind, call) in bodies and kind not in begun:
+            further = begun + (kind,)
+            yield from courses_behind(further, call, lines, bodies)
+
+
+def _all_courses(registry, kind, call):
+    """Return (course, ends, bases) for all courses of a kind, a list, ascending."""
+    _check_start(registry, kind, call)
+    start = (kind,)
+    lines = lines_of(registry)
+    bodies = bodies_of(registry, call)
+    return list(courses_behind(start, call, lines, bodies))
+
+
+def longest(registry, kind, call):
+    """Return (course, bases): the least of the courses with the most kinds, and a future list with it."""
+    found = _all_courses(registry, kind, call)
+    most = max([len(course) for course, _, _ in found])
+    return min([(course, bases) for course, _, bases in found if len(course) == most])
+
+
+def lost(registry, kind, call):
+    """Return (course, bases): the least of the courses with the fewest kinds that end lost, or None."""
+    ending = [(course, bases) for course, ends, bases in _all_courses(registry, kind, call) if ends]
+    fewest = min([len(course) for course, _ in ending], default=0)
+    return min([row for row in ending if len(row[0]) == fewest], default=None)
+
+
+def seals(registry, kind, call):
+    """Return the seals of a kind, in the order of its line."""
+    _check_start(registry, kind, call)
+    lines = lines_of(registry)
+    bodies = bodies_of(registry, call)
+    for stray in _strays(kind, call, lines, bodies):
+        if bases_of_chain((kind, stray), call, lines, bodies) is not None:
+            return []
+    # Whatever else can come between hands on, so that all courses have the course in the own line of the kind.
+    return list(course_in(lines[kind], kind, call, bodies)[1:])
+
+
+def seal_paper(registry, kind, call, target):
+    """Return a paper about a seal: a future list whose course skips the target, or why there is none."""
+    _check_start(registry, kind, call)
+    _check_target(registry, kind, target)
+    lines = lines_of(registry)
+    bodies = bodies_of(registry, call)
+    if target not in course_in(lines[kind], kind, call, bodies):
+        return ("skipped", (kind,))
+    papers = []
+    for stray in _strays(kind, call, lines, bodies):
+        # A course that comes to a stray next is settled there.
+        bases = bases_of_chain((kind, stray), call, lines, bodies)
+        if bases is not None:
+            return ("skipped", bases)
+        papers.append((stray, first_hindrance(kind, call, stray, lines, bodies)))
+    return ("seal", tuple(papers))
+
+
+def shows_seal(registry, kind, call, target, paper):
+    """Return whether any value is a paper about a seal that holds."""
+    _check_start(registry, kind, call)
+    _check_target(registry, kind, target)
+    if not isinstance(paper, tuple) or len(paper) != 2:
+        return False
+    word, proof = paper
+    lines = lines_of(registry)
+    bodies = bodies_of(registry, call)
+    if word == "skipped":
+        line = line_or_none(proof, lines)
+        return line is not None and kind in line and target not in course_in(line, kind, call, bodies)
+    if word != "seal" or target not in course_in(lines[kind], kind, call, bodies):
+        return False
+    return _are_strays(proof, kind, call, lines, bodies)
+
+
+def _check_start(registry, kind, call):
+    """Raise NoKind, NoCall or Absent if any values are not a kind and a call that it has a body for."""
+    check_kind(registry, kind)
+    check_call(call)
+    if registry.body(kind, call) is None:
+        raise Absent(kind, call)
+
+
+def _check_target(registry, kind, target):
+    """Raise NoKind if any value is not a kind other than the one that is asked about."""
+    check_kind(registry, target)
+    if target == kind:
+        raise NoKind(target)
+
+
+def _strays(kind, call, lines, bodies):
+    """Return the kinds that are not in the line of a kind, at which a course would be settled, ascending."""
+    return [name for name in sorted(lines)
+            if name not in lines[kind] and (name, call) in bodies and not hands_on(bodies[(name, call)])]
+
+
+def _are_strays(thing, kind, call, lines, bodies):
+    """Return whether any value is all strays of a kind, in order, each with why it never can be next."""
+    strays = _strays(kind, call, lines, bodies)
+    if not isinstance(thing, tuple) or len(thing) != len(strays):
+        return False
+    for row, stray in zip(thing, strays):
+        if not isinstance(row, tuple) or len(row) != 2 or row[0] != stray:
+            return False
+        # A stray has a body and is not in the line, so nothing but "behind" and "clash" can hold.
+        if not hinders(kind, call, stray, row[1], lines, bodies):
+            return False
+    return True
