@@ -25,11 +25,8 @@ def after_step(line, bodies, call, stack):
     words = rows[row]
     if words[0] == "say":
         return ("say", definer, words[1]), rest
-    if words[0] == "call":
-        return _entered(first_kind(line, words[1], bodies), definer, words[1], bodies, rest)
-    # The line may have changed since the body was entered.
-    found = next_kind(line, definer, name, bodies) if definer in line else None
-    return _entered(found, definer, name, bodies, rest)
+    called = name if words[0] == "next" else words[1]
+    return _entered(_looked_up(words[0], definer, called, line, bodies), definer, called, bodies, rest)
 
 
 def _entered(kind, definer, call, bodies, stack):
@@ -44,19 +41,53 @@ def rest_of(line, bodies, call, stack):
 
     Raises TooLong if more than four hundred bodies would be entered.
     """
+    # Ahead of the first step the call is like a body without a kind that calls it.
+    left = stack or ((None, call, 0, (("call", call),)),)
     events = []
     entered = 0
-    over = False
-    while not over:
-        event, stack = after_step(line, bodies, call, stack)
-        if event[0] == "enter":
-            entered += 1
-        elif event[0] != "leave":
-            events.append(event)
+    known = {}
+    for definer, name, row, rows in reversed(left):
+        many, told = _run_rows(definer, name, rows[row:], line, bodies, known)
+        entered += many
+        events.extend(told)
         if entered > MOST_RUN:
             raise TooLong()
-        over = not stack
     return events
+
+
+def _run_rows(definer, call, rows, line, bodies, known):
+    """Return how many bodies some rows of a body enter, and the events "say" and "lost" of all that they do.
+
+    The line stays as it is, so that a body does the same each time it is
+    entered: known keeps that for each body. Raises TooLong.
+    """
+    entered = 0
+    events = []
+    for words in rows:
+        if words[0] == "say":
+            events.append(("say", definer, words[1]))
+            continue
+        name = call if words[0] == "next" else words[1]
+        kind = _looked_up(words[0], definer, name, line, bodies)
+        if kind is None:
+            events.append(("lost", definer, name))
+            continue
+        if (kind, name) not in known:
+            known[(kind, name)] = _run_rows(kind, name, bodies[(kind, name)], line, bodies, known)
+        many, told = known[(kind, name)]
+        entered += many + 1
+        events.extend(told)
+        if entered > MOST_RUN:
+            raise TooLong()
+    return entered, events
+
+
+def _looked_up(word, definer, call, line, bodies):
+    """Return the kind whose body a row "next" or "call" of a definer enters, None if there is none."""
+    if word == "call":
+        return first_kind(line, call, bodies)
+    # The line may have changed since the body was entered.
+    return next_kind(line, definer, call, bodies) if definer in line else None
 
 
 def first_difference(one, other):

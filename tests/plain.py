@@ -409,9 +409,11 @@ class Plain:
         held = self.open_calls[number]
         copied = {"call": held["call"], "stack": [dict(part) for part in held["stack"]]}
         events = [self.one_step(copied, kind)]
+        entered = [event[0] for event in events].count("enter")
         while copied["stack"]:
             events.append(self.one_step(copied, kind))
-            if [event[0] for event in events].count("enter") > 400:
+            entered += events[-1][0] == "enter"
+            if entered > 400:
                 raise Refused("TooLong")
         return [event for event in events if event[0] in ("say", "lost")]
 
