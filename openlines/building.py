@@ -15,7 +15,7 @@ def wrong_base(thing, kinds):
     if not isinstance(thing, tuple) or len(thing) > MOST_BASES:
         return -1
     for at, base in enumerate(thing):
-        if base not in kinds or base in thing[:at]:
+        if not isinstance(base, str) or base not in kinds or base in thing[:at]:
             return at
     return None
 
@@ -27,11 +27,11 @@ def check_bases(thing, kinds):
         raise NoBases(at)
 
 
-def check_future_bases(registry, thing):
-    """Raise NoBases if any value is not a tuple of one to ten distinct kinds of a registry."""
+def check_future_bases(thing, lines):
+    """Raise NoBases if any value is not a tuple of one to ten distinct kinds that have a line."""
     if thing == ():
         raise NoBases(-1)
-    check_bases(thing, registry.kinds())
+    check_bases(thing, lines)
 
 
 def lists_of(bases, lines):
@@ -39,11 +39,22 @@ def lists_of(bases, lines):
     return tuple([lines[base] for base in bases] + [bases])
 
 
-def line_or_none(thing, lines):
-    """Return the future line of any value, None if it is not a future list."""
-    if thing == () or wrong_base(thing, list(lines)) is not None:
+def line_with(thing, needed, lines):
+    """Return the future line of any value, None if it is not a future list with the needed kinds in its line."""
+    if thing == () or wrong_base(thing, lines) is not None or not covers(thing, needed, lines):
         return None
     return merge_or_none(lists_of(thing, lines))
+
+
+def covers(bases, needed, lines):
+    """Return whether each needed kind is in the line of one of the bases."""
+    for name in needed:
+        for base in bases:
+            if name in lines[base]:
+                break
+        else:
+            return False
+    return True
 
 
 def new_line(kind, bases, lines):

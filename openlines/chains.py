@@ -1,9 +1,8 @@
 """Whether kinds can be a chain in lines that are not built yet."""
 
-from openlines.building import line_or_none, lists_of
+from openlines.building import line_with, lists_of
 from openlines.errors import NoChain
 from openlines.lines import any_ring, is_ring, is_road, merge_or_none
-from openlines.lookups import next_kind
 from openlines.names import check_call
 from openlines.roads import road_to
 from openlines.views import bodies_of, lines_of
@@ -13,9 +12,9 @@ MOST_OF_A_CHAIN = 10
 
 def chain(registry, call, kinds, *, lost=False):
     """Return a paper about a chain: a future list in which it is possible, or why there is none."""
-    _check_chain(registry, call, kinds)
     lines = lines_of(registry)
-    bodies = bodies_of(registry, call)
+    bodies = bodies_of(registry)
+    _check_chain(call, kinds, lines, bodies)
     bases = bases_of_chain(kinds, call, lines, bodies)
     if bases is not None and (bases == kinds or not lost):
         return ("can", bases)
@@ -52,50 +51,54 @@ def others_of(kinds, call, lines, bodies):
 
 def shows_chain(registry, call, kinds, paper, *, lost=False):
     """Return whether any value is a paper about a chain that holds."""
-    _check_chain(registry, call, kinds)
+    lines = lines_of(registry)
+    bodies = bodies_of(registry)
+    _check_chain(call, kinds, lines, bodies)
     if not isinstance(paper, tuple) or not 2 <= len(paper) <= 3:
         return False
-    lines = lines_of(registry)
-    bodies = bodies_of(registry, call)
-    lists = lists_of(kinds, lines)
-    others = [kind for kind in lines if (kind, call) in bodies and kind not in kinds]
+    word = paper[0]
+    proof = paper[1]
     if len(paper) == 3:
-        return paper[0] == "between" and _are_around(lists, paper[1], paper[2], kinds, others)
-    word, proof = paper
+        return word == "between" and _are_around(proof, paper[2], call, kinds, lines, bodies)
     if word == "can":
-        return _is_possible(line_or_none(proof, lines), call, kinds, bodies, lost)
+        line = line_with(proof, kinds, lines)
+        return line is not None and _is_possible(line, call, kinds, bodies, lost)
     if word == "ring":
-        return is_ring(lists, proof)
-    return word == "after" and lost and _leads(lists, proof, kinds, others)
+        return is_ring(lists_of(kinds, lines), proof)
+    return word == "after" and lost and _leads_away(lists_of(kinds, lines), proof, call, kinds, bodies)
 
 
-def _check_chain(registry, call, kinds):
+def _check_chain(call, kinds, lines, bodies):
     """Raise NoCall or NoChain if any values are not a call name and a chain for it."""
     check_call(call)
     if not isinstance(kinds, tuple) or not 2 <= len(kinds) <= MOST_OF_A_CHAIN:
         raise NoChain(-1)
     for at, kind in enumerate(kinds):
-        if not registry.has(kind) or kind in kinds[:at]:
+        if not isinstance(kind, str) or kind not in lines or kind in kinds[:at]:
             raise NoChain(at)
-        if at > 0 and registry.body(kind, call) is None:
+        if at > 0 and (kind, call) not in bodies:
             raise NoChain(at)
 
 
 def _is_possible(line, call, kinds, bodies, lost):
-    """Return whether a chain is possible in a future line, and ends lost if that is asked."""
-    if line is None or not all([kind in line for kind in kinds]):
+    """Return whether a chain is possible in a future line with its kinds, and ends lost if that is asked."""
+    behind = tuple([name for name in line[line.index(kinds[0]) + 1:] if (name, call) in bodies])
+    if lost:
+        return behind == kinds[1:]
+    return behind[:len(kinds) - 1] == kinds[1:]
+
+
+def _leads_away(lists, thing, call, kinds, bodies):
+    """Return whether any value is a road of the lists from a kind of a chain to another kind with a body."""
+    if not is_road(lists, thing) or thing[0][0] not in kinds:
         return False
-    found = [next_kind(line, kind, call, bodies) for kind in kinds]
-    if lost and found[-1] is not None:
-        return False
-    return found[:-1] == list(kinds[1:])
+    last = thing[-1][1]
+    return last not in kinds and (last, call) in bodies
 
 
-def _leads(lists, thing, starts, goals):
-    """Return whether any value is a road of the lists from one of the starts to one of the goals."""
-    return is_road(lists, thing) and thing[0][0] in starts and thing[-1][1] in goals
-
-
-def _are_around(lists, road, other, kinds, others):
+def _are_around(thing, other, call, kinds, lines, bodies):
     """Return whether any values are a road from a chain to another kind and one from it back to the chain."""
-    return _leads(lists, road, kinds, others) and _leads(lists, other, [road[-1][1]], kinds)
+    lists = lists_of(kinds, lines)
+    if not _leads_away(lists, thing, call, kinds, bodies) or not is_road(lists, other):
+        return False
+    return other[0][0] == thing[-1][1] and other[-1][1] in kinds

@@ -1,6 +1,6 @@
 """What can be next behind a kind in lines that are not built yet."""
 
-from openlines.building import check_future_bases, line_or_none, lists_of
+from openlines.building import check_future_bases, covers, line_with, lists_of
 from openlines.lines import merge_or_none, merged, stands_ahead
 from openlines.lookups import next_kind
 from openlines.names import check_call
@@ -14,8 +14,9 @@ def future_line(registry, bases):
 
     Raises NoBases, and NoMerge with the least of the shortest rings.
     """
-    check_future_bases(registry, bases)
-    return merged(lists_of(bases, lines_of(registry)))
+    lines = lines_of(registry)
+    check_future_bases(bases, lines)
+    return merged(lists_of(bases, lines))
 
 
 def future_lists(registry, most):
@@ -39,9 +40,10 @@ def lists_behind(begun, many, lines, needed):
 
     Only those in whose line the needed names are.
     """
-    for kind in lines:
+    for kind in sorted(lines):
         bases = begun + (kind,)
-        if kind in begun or len(bases) == many and not _covers(bases, lines, needed):
+        # What a list must have is asked ahead of its merge, which takes far longer.
+        if kind in begun or len(bases) == many and not covers(bases, needed, lines):
             continue
         # A list that begins with no future list is none either, as it has all demands of the beginning.
         line = merge_or_none(lists_of(bases, lines))
@@ -53,17 +55,12 @@ def lists_behind(begun, many, lines, needed):
             yield from lists_behind(bases, many, lines, needed)
 
 
-def _covers(bases, lines, needed):
-    """Return whether each needed name is in the line of one of the bases."""
-    return all([any([name in lines[base] for base in bases]) for name in needed])
-
-
 def targets(registry, kind, call):
     """Return (target, least list) for everything that can be next behind a kind, None last."""
-    check_kind(registry, kind)
-    check_call(call)
     lines = lines_of(registry)
-    bodies = bodies_of(registry, call)
+    bodies = bodies_of(registry)
+    check_kind(kind, lines)
+    check_call(call)
     possible = [target for target in registry.kinds() + [None]
                 if first_hindrance(kind, call, target, lines, bodies) is None]
     found = _least_lists(kind, call, possible, lines, bodies)
@@ -72,9 +69,9 @@ def targets(registry, kind, call):
 
 def verdict(registry, kind, call, target):
     """Return a paper about a target: its least list, or the first reason why it never can be next."""
-    _check_question(registry, kind, call, target)
     lines = lines_of(registry)
-    bodies = bodies_of(registry, call)
+    bodies = bodies_of(registry)
+    _check_question(kind, call, target, lines)
     paper = first_hindrance(kind, call, target, lines, bodies)
     if paper is not None:
         return paper
@@ -83,21 +80,22 @@ def verdict(registry, kind, call, target):
 
 def shows(registry, kind, call, target, paper):
     """Return whether any value is a paper about a target that holds."""
-    _check_question(registry, kind, call, target)
     lines = lines_of(registry)
-    bodies = bodies_of(registry, call)
+    bodies = bodies_of(registry)
+    _check_question(kind, call, target, lines)
     if isinstance(paper, tuple) and len(paper) == 2 and paper[0] == "can":
-        line = line_or_none(paper[1], lines)
-        return line is not None and kind in line and next_kind(line, kind, call, bodies) == target
+        needed = (kind,) if target is None else (kind, target)
+        line = line_with(paper[1], needed, lines)
+        return line is not None and next_kind(line, kind, call, bodies) == target
     return hinders(kind, call, target, paper, lines, bodies)
 
 
-def _check_question(registry, kind, call, target):
+def _check_question(kind, call, target, lines):
     """Raise NoKind or NoCall if nothing can be asked about these values."""
-    check_kind(registry, kind)
+    check_kind(kind, lines)
     check_call(call)
     if target is not None:
-        check_kind(registry, target)
+        check_kind(target, lines)
 
 
 def _least_lists(kind, call, wanted, lines, bodies):
@@ -105,7 +103,6 @@ def _least_lists(kind, call, wanted, lines, bodies):
     found = {}
     for many in range(1, MOST_OF_A_LEAST_LIST + 1):
         left = [target for target in wanted if target not in found]
-        # What one list must have is asked ahead of its merge, which takes far longer.
         needed = [kind] + [target for target in left if len(left) == 1 and target is not None]
         for bases, line in lists_behind((), many, lines, needed):
             target = next_kind(line, kind, call, bodies)

@@ -48,9 +48,14 @@ def is_road(lists, thing):
     """Return whether any value is a road of the lists: demands, each behind the one before."""
     if not isinstance(thing, tuple) or not thing:
         return False
-    if not all([is_demand(lists, row) for row in thing]):
-        return False
-    return all([thing[at - 1][1] == thing[at][0] for at in range(1, len(thing))])
+    before = None
+    for row in thing:
+        if not is_demand(lists, row):
+            return False
+        if before is not None and row[0] != before:
+            return False
+        before = row[1]
+    return True
 
 
 def is_demand(lists, thing):

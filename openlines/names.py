@@ -7,9 +7,9 @@ MOST_LETTERS = 8
 
 def is_name(thing):
     """Return whether any value is a name: one to eight letters from a to z."""
-    if not isinstance(thing, str) or not 1 <= len(thing) <= MOST_LETTERS:
+    if not isinstance(thing, str) or len(thing) > MOST_LETTERS:
         return False
-    return all(["a" <= letter <= "z" for letter in thing])
+    return thing.isascii() and thing.isalpha() and thing.islower()
 
 
 def is_integer(thing):

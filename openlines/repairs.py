@@ -1,6 +1,6 @@
 """What is kept of a base list that has no line, and what tells two registries apart."""
 
-from openlines.building import check_future_bases, line_or_none, lists_of
+from openlines.building import check_future_bases, line_with, lists_of
 from openlines.errors import NoRegistry
 from openlines.lines import any_ring, is_ring, merge_or_none
 from openlines.registry import Registry
@@ -9,8 +9,8 @@ from openlines.views import lines_of
 
 def kept(registry, bases):
     """Return (part, rings): the least of the greatest parts that are future lists, and why no greater one is."""
-    check_future_bases(registry, bases)
     lines = lines_of(registry)
+    check_future_bases(bases, lines)
     greater = []
     parts = [bases]
     part = _first_with_line(parts, lines)
@@ -31,12 +31,12 @@ def _first_with_line(parts, lines):
 
 def shows_kept(registry, bases, paper):
     """Return whether any value is a part that is a future list, and why no greater one is."""
-    check_future_bases(registry, bases)
+    lines = lines_of(registry)
+    check_future_bases(bases, lines)
     if not isinstance(paper, tuple) or len(paper) != 2:
         return False
     part, rings = paper
-    lines = lines_of(registry)
-    if line_or_none(part, lines) is None or part != tuple([kind for kind in bases if kind in part]):
+    if line_with(part, (), lines) is None or part != tuple([kind for kind in bases if kind in part]):
         return False
     greater = parts_of(bases, len(part) + 1)
     if not isinstance(rings, tuple) or len(rings) != len(greater):
@@ -63,8 +63,8 @@ def parts_of(bases, many):
 
 def ordered(registry, bases):
     """Return the least order of the kinds that is a future list, or a ring of their lines."""
-    check_future_bases(registry, bases)
     lines = lines_of(registry)
+    check_future_bases(bases, lines)
     lists = tuple([lines[base] for base in bases])
     ring = any_ring(lists)
     if ring is not None:
@@ -106,8 +106,8 @@ def telling(one, other):
     while begun:
         further = []
         for bases in [start + (name,) for start in begun for name in names if name not in start]:
-            is_mine = line_or_none(bases, mine) is not None
-            if is_mine != (line_or_none(bases, theirs) is not None):
+            is_mine = line_with(bases, (), mine) is not None
+            if is_mine != (line_with(bases, (), theirs) is not None):
                 return bases
             if is_mine:
                 further.append(bases)

@@ -1,6 +1,6 @@
 """Courses of calls in lines that are not built yet: the longest, those that end lost, and the seals."""
 
-from openlines.building import line_or_none
+from openlines.building import line_with
 from openlines.chains import bases_of_chain
 from openlines.errors import Absent, NoKind
 from openlines.futures import first_hindrance, hinders
@@ -15,10 +15,10 @@ def courses(registry, kind, call):
 
     All that is asked of the registry is asked ahead of the first item.
     """
-    _check_start(registry, kind, call)
-    start = (kind,)
     lines = lines_of(registry)
-    bodies = bodies_of(registry, call)
+    bodies = bodies_of(registry)
+    _check_start(kind, call, lines, bodies)
+    start = (kind,)
     for course, ends, _ in courses_behind(start, call, lines, bodies):
         yield (course, ends)
 
@@ -41,10 +41,10 @@ def courses_behind(begun, call, lines, bodies):
 
 def _all_courses(registry, kind, call):
     """Return (course, ends, bases) for all courses of a kind, a list, ascending."""
-    _check_start(registry, kind, call)
-    start = (kind,)
     lines = lines_of(registry)
-    bodies = bodies_of(registry, call)
+    bodies = bodies_of(registry)
+    _check_start(kind, call, lines, bodies)
+    start = (kind,)
     return list(courses_behind(start, call, lines, bodies))
 
 
@@ -64,9 +64,9 @@ def lost(registry, kind, call):
 
 def seals(registry, kind, call):
     """Return the seals of a kind, in the order of its line."""
-    _check_start(registry, kind, call)
     lines = lines_of(registry)
-    bodies = bodies_of(registry, call)
+    bodies = bodies_of(registry)
+    _check_start(kind, call, lines, bodies)
     for stray in _strays(kind, call, lines, bodies):
         if bases_of_chain((kind, stray), call, lines, bodies) is not None:
             return []
@@ -76,10 +76,10 @@ def seals(registry, kind, call):
 
 def seal_paper(registry, kind, call, target):
     """Return a paper about a seal: a future list whose course skips the target, or why there is none."""
-    _check_start(registry, kind, call)
-    _check_target(registry, kind, target)
     lines = lines_of(registry)
-    bodies = bodies_of(registry, call)
+    bodies = bodies_of(registry)
+    _check_start(kind, call, lines, bodies)
+    _check_target(kind, target, lines)
     if target not in course_in(lines[kind], kind, call, bodies):
         return ("skipped", (kind,))
     papers = []
@@ -94,32 +94,33 @@ def seal_paper(registry, kind, call, target):
 
 def shows_seal(registry, kind, call, target, paper):
     """Return whether any value is a paper about a seal that holds."""
-    _check_start(registry, kind, call)
-    _check_target(registry, kind, target)
+    lines = lines_of(registry)
+    bodies = bodies_of(registry)
+    _check_start(kind, call, lines, bodies)
+    _check_target(kind, target, lines)
     if not isinstance(paper, tuple) or len(paper) != 2:
         return False
     word, proof = paper
-    lines = lines_of(registry)
-    bodies = bodies_of(registry, call)
     if word == "skipped":
-        line = line_or_none(proof, lines)
-        return line is not None and kind in line and target not in course_in(line, kind, call, bodies)
+        needed = (kind,)
+        line = line_with(proof, needed, lines)
+        return line is not None and target not in course_in(line, kind, call, bodies)
     if word != "seal" or target not in course_in(lines[kind], kind, call, bodies):
         return False
     return _are_strays(proof, kind, call, lines, bodies)
 
 
-def _check_start(registry, kind, call):
+def _check_start(kind, call, lines, bodies):
     """Raise NoKind, NoCall or Absent if any values are not a kind and a call that it has a body for."""
-    check_kind(registry, kind)
+    check_kind(kind, lines)
     check_call(call)
-    if registry.body(kind, call) is None:
+    if (kind, call) not in bodies:
         raise Absent(kind, call)
 
 
-def _check_target(registry, kind, target):
+def _check_target(kind, target, lines):
     """Raise NoKind if any value is not a kind other than the one that is asked about."""
-    check_kind(registry, target)
+    check_kind(target, lines)
     if target == kind:
         raise NoKind(target)
 

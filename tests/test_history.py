@@ -3,12 +3,12 @@
 import random
 import unittest
 
-from openlines.chains import chain
-from openlines.futures import future_lists, targets, verdict
+from openlines.chains import chain, shows_chain
+from openlines.futures import future_lists, shows, targets, verdict
 from openlines.registry import Registry
 from openlines.repairs import kept as kept_part
-from openlines.repairs import ordered, telling
-from openlines.runs import courses, longest, lost, seal_paper, seals
+from openlines.repairs import ordered, shows_kept, telling
+from openlines.runs import courses, longest, lost, seal_paper, seals, shows_seal
 from openlines.texts import read_registry, show_registry
 from plain import Plain
 from told import kept, read, told
@@ -114,6 +114,22 @@ def asked(registry):
     return answers
 
 
+def all_shown(registry):
+    """Whether each paper that is returned holds: a list of True."""
+    kinds = registry.kinds()
+    found = []
+    for kind in kinds:
+        for other in kinds:
+            found.append(shows(registry, kind, "f", other, verdict(registry, kind, "f", other)))
+            if kind != other and registry.body(kind, "f") is not None:
+                found.append(shows_seal(registry, kind, "f", other, seal_paper(registry, kind, "f", other)))
+            if kind != other and registry.body(other, "f") is not None:
+                found.append(shows_chain(registry, "f", (kind, other), chain(registry, "f", (kind, other))))
+    if kinds:
+        found.append(shows_kept(registry, tuple(kinds), kept_part(registry, tuple(kinds))))
+    return found
+
+
 class HistoryTest(unittest.TestCase):
     def history(self, seed, many, words):
         """Do some deeds and lookups; return the words that were done and the errors that were raised."""
@@ -151,6 +167,7 @@ class HistoryTest(unittest.TestCase):
         self.assertEqual(asked(made), asked(registry))
         self.assertIs(telling(made, registry), None)
         self.assertEqual(asked(read_registry(show_registry(registry))), asked(registry))
+        self.assertNotIn(False, all_shown(registry))
         self.assertEqual(kept(registry), before)
         for key, answer in registry.cached():
             self.assertEqual((made.first if len(key) == 2 else made.following)(*key), answer)

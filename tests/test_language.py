@@ -25,7 +25,7 @@ WORDS_OUT = (
     "compile copyright credits delattr dir eval exec exit gc globals help id importlib license locals os quit vars"
 ).split()
 METHODS = (
-    "append extend get index isascii isdigit items join pop remove setdefault split update values"
+    "append extend get index isalpha isascii isdigit islower items join pop remove setdefault split update values"
 ).split()
 
 # The interface as the document tells it.
