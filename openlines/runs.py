@@ -39,27 +39,31 @@ def courses_behind(begun, call, lines, bodies):
             yield from courses_behind(further, call, lines, bodies)
 
 
-def _all_courses(registry, kind, call):
-    """Return (course, ends, bases) for all courses of a kind, a list, ascending."""
+def longest(registry, kind, call):
+    """Return (course, bases): the least of the courses with the most kinds, and a future list with it."""
     lines = lines_of(registry)
     bodies = bodies_of(registry)
     _check_start(kind, call, lines, bodies)
     start = (kind,)
-    return list(courses_behind(start, call, lines, bodies))
-
-
-def longest(registry, kind, call):
-    """Return (course, bases): the least of the courses with the most kinds, and a future list with it."""
-    found = _all_courses(registry, kind, call)
+    found = list(courses_behind(start, call, lines, bodies))
     most = max([len(course) for course, _, _ in found])
     return min([(course, bases) for course, _, bases in found if len(course) == most])
 
 
 def lost(registry, kind, call):
-    """Return (course, bases): the least of the courses with the fewest kinds that end lost, or None."""
-    ending = [(course, bases) for course, ends, bases in _all_courses(registry, kind, call) if ends]
-    fewest = min([len(course) for course, _ in ending], default=0)
-    return min([row for row in ending if len(row[0]) == fewest], default=None)
+    """Return (course, bases): the least of the courses with the fewest kinds that end lost, or None.
+
+    A course that ends lost has all kinds with a body that stand behind the
+    kind in its own line. So the course there ends lost, too, and it is the
+    only one with as few kinds.
+    """
+    lines = lines_of(registry)
+    bodies = bodies_of(registry)
+    _check_start(kind, call, lines, bodies)
+    course = course_in(lines[kind], kind, call, bodies)
+    if not hands_on(bodies[(course[-1], call)]):
+        return None
+    return (course, (kind,))
 
 
 def seals(registry, kind, call):

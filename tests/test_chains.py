@@ -197,6 +197,15 @@ class ChainTest(unittest.TestCase):
                     plain, futures, "f", kinds, thing, lost)
                 self.assertIs(shows_chain(registry, "f", kinds, thing, lost=lost), holds, thing)
 
+    def test_papers_that_are_too_long(self):
+        rows = [("y", ()), ("a", ("y",)), ("b", ("a",))]
+        registry, _ = both(rows, [(kind, "f") for kind in ("y", "a", "b")])
+        for kinds, lost in ((("b", "a"), False), (("b", "a"), True), (("b", "y"), False), (("y", "a"), False)):
+            paper = chain(registry, "f", kinds, lost=lost)
+            self.assertIs(shows_chain(registry, "f", kinds, paper, lost=lost), True)
+            for more in ((None,), (None, None), paper[1:], paper, paper + paper, (None,) * 5000):
+                self.assertIs(shows_chain(registry, "f", kinds, paper + more, lost=lost), False)
+
     def test_long_roads_and_rings(self):
         rows = [("y", ()), ("a", ("y",)), ("b", ("a",))]
         registry, _ = both(rows, [(kind, "f") for kind in ("y", "a", "b")])

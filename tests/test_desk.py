@@ -101,7 +101,8 @@ def some_command(chance, registry):
     command = " ".join(words)
     if chance.random() < 0.05:
         at = chance.randrange(len(command) + 1)
-        command = command[:at] + chance.choice((" ", "", "x", " x", "\n", "A", "0")) + command[at + chance.randrange(2):]
+        part = chance.choice((" ", "", "x", " x", "\n", "A", "0"))
+        command = command[:at] + part + command[at + chance.randrange(2):]
     return command
 
 
@@ -126,13 +127,15 @@ class AnswerTest(unittest.TestCase):
         self.check(desk, ("make a", "0"), ("make b", "1"), ("begin 0 f", "0"), ("begin 1 g", "1"),
                    ("rest 0", "say b mid; say c end; lost a g"), ("step 0", "enter a f"), ("step 0", "enter b f"),
                    ("step 1", "lost - g"), ("step 0", "say b mid"), ("rest 0", "say c end; lost a g"),
-                   ("move 0 a", "ok"), ("stop 0", "ok"), ("undo", "ok"), ("step 0", "enter c f"), ("step 0", "say c end"),
+                   ("move 0 a", "ok"), ("stop 0", "ok"), ("undo", "ok"), ("step 0", "enter c f"),
+                   ("step 0", "say c end"),
                    ("step 0", "leave c f"), ("step 0", "leave b f"), ("step 0", "lost a g"), ("rest 0", "none"),
                    ("step 0", "leave a f"), ("discard 0", "ok"), ("make c", "2"), ("discard 1", "ok"))
 
     def test_targets(self):
         desk = Desk("kind a\nbody f next\nkind b\nbody f next\nkind c b\nbody f -")
-        self.check(desk, ("targets a f", "b:a+b c:a+c -:a"), ("targets b f", "a:b+a -:b"), ("targets c f", "a:c+a+b b:c"),
+        self.check(desk, ("targets a f", "b:a+b c:a+c -:a"), ("targets b f", "a:b+a -:b"),
+                   ("targets c f", "a:c+a+b b:c"),
                    ("targets a g", "-:a"))
 
     def test_the_registry_of_a_string(self):
@@ -158,8 +161,10 @@ class AnswerTest(unittest.TestCase):
         desk = Desk(STRING)
         desk.say_all("make c", "make a", "begin 0 f")
         rows = [
-            ("add A", NoName), ("add abcdefghi", NoName), ("add a", Taken), ("add d z", NoBases), ("add d a a", NoBases),
-            ("add d " + " ".join(["a"] * 11), NoBases), ("add d c a", NoLine), ("rebase z", NoKind), ("rebase a a", NoBases),
+            ("add A", NoName), ("add abcdefghi", NoName), ("add a", Taken), ("add d z", NoBases),
+            ("add d a a", NoBases),
+            ("add d " + " ".join(["a"] * 11), NoBases), ("add d c a", NoLine), ("rebase z", NoKind),
+            ("rebase a a", NoBases),
             ("rebase c b", NoBases), ("rebase b z c", NoBases), ("rebase a c b", NoLine), ("drop z", NoKind),
             ("drop c", InUse), ("drop a", InUse), ("body z f next", NoKind), ("body a F next", NoCall),
             ("body z F next", NoKind), ("clear a g", Absent), ("clear a G", Absent), ("clear z f", NoKind),
@@ -217,13 +222,17 @@ class CommandTest(unittest.TestCase):
         commands = [
             "", " ", "  ", "Kinds", "kind", "kinds ", " kinds", "kinds a", "kinds\n", "\n", "say", "has a", "show",
             "add", "add ", "add d ", "add  d", "add d  a", " add d", "rebase", "drop", "drop a b", "drop  c",
-            "body", "body a", "body a f", "body a f ", "body a f  next", "body a f next ", "body a f next,", "body a f x",
-            "body a f call f", "body a f call a", "body a f next, -", "body a f Next", "body a f say", "body a f next,next",
+            "body", "body a", "body a f", "body a f ", "body a f  next", "body a f next ", "body a f next,",
+            "body a f x",
+            "body a f call f", "body a f call a", "body a f next, -", "body a f Next", "body a f say",
+            "body a f next,next",
             "body a f " + ", ".join(["next"] * 7), "body z F x", "body a zz call g", "body a ~ call g", "body  f next",
             "clear", "clear a", "clear a f g", "undo 1", "undo ", "make", "make a b", "begin", "begin 0", "begin 0 f g",
             "begin a f", "begin 00 f", "begin -0 f", "begin -1 f", "begin +0 f", "begin 0x0 f", "begin 1_0 f",
-            "begin 0000000000 f", "begin 1234567890 f", "begin 0.0 f", "move 0", "move a 0", "move 01 a", "move 0 a b",
-            "discard", "discard a", "discard 0 0", "discard 0\n", "stop", "stop 00", "stop True", "step", "step 0 0", "step x",
+            "begin \u0663 f", "begin \u00b2 f", "begin 0000000000 f", "begin 1234567890 f", "begin 0.0 f", "move 0",
+            "move a 0", "move 01 a", "move 0 a b",
+            "discard", "discard a", "discard 0 0", "discard 0\n", "stop", "stop 00", "stop True", "step", "step 0 0",
+            "step x",
             "rest", "rest x", "rest 0 1", "run", "run a", "run a f g", "line", "line a b", "first a", "first a f g",
             "following a f", "following a a f g", "targets a", "targets a f g", "undo\n", "UNDO", "clear_body a f",
         ]
@@ -242,7 +251,8 @@ class CommandTest(unittest.TestCase):
     def test_rows_for_a_call_that_is_no_name(self):
         desk = Desk("kind a")
         # Rows are judged first: by the call as it is written, whether it is a name or not.
-        for command, error in (("body a F call a", "NoCall"), ("body a F next", "NoCall"), ("body a F nex", "NoCommand"),
+        for command, error in (("body a F call a", "NoCall"), ("body a F next", "NoCall"),
+                               ("body a F nex", "NoCommand"),
                                ("body a ~ call z", "NoCommand"), ("body a abcdefghi call abcdefg", "NoCommand"),
                                ("body a abcdefghi call abcdefh", "NoCall"), ("body z ~ -", "NoKind"),
                                ("body a ~ -", "NoCall"), ("body z f call e", "NoCommand")):

@@ -4,10 +4,10 @@ import itertools
 import time
 import unittest
 
-from openlines.errors import NoBases, NoCall, NoKind, NoLine, NoMerge
+from openlines.errors import NoBases, NoCall, NoKind, NoMerge
 from openlines.futures import future_line, future_lists, shows, targets, verdict
 from openlines.registry import Registry
-from plain import next_in, plain_hindrances, plain_least_ring, plain_merge, plain_targets
+from plain import next_in, plain_hindrances, plain_least_ring, plain_targets
 from small import all_small, both, some_registries
 from told import refused, told
 from values import ANY_VALUES, replaced
@@ -294,6 +294,15 @@ class TargetTest(unittest.TestCase):
         for paper in (("no body",), ("clash", "a", "d")):
             for thing in replaced(paper):
                 self.assertIs(shows(registry, "d", "f", "x", thing), False)
+
+    def test_papers_that_are_too_long(self):
+        rows = [("c", ()), ("d", ()), ("a", ("c", "d")), ("b", ("d", "c")), ("e", ())]
+        registry, _ = both(rows, [("a", "f"), ("b", "f"), ("c", "f"), ("d", "f")])
+        for kind, target in (("a", "b"), ("a", "e"), ("a", "a"), ("a", "d"), ("a", None), ("e", "b"), ("e", None)):
+            paper = verdict(registry, kind, "f", target)
+            self.assertIs(shows(registry, kind, "f", target, paper), True)
+            for more in ((None,), (None, None), paper[1:] + (0,), paper, paper + paper, (None,) * 5000):
+                self.assertIs(shows(registry, kind, "f", target, paper + more), False)
 
     def test_nothing_is_cached_or_changed(self):
         registry, _ = both([("d", ()), ("a", ("d",)), ("x", ())], [("a", "f"), ("d", "f"), ("x", "f")])

@@ -339,7 +339,7 @@ class AskingTest(unittest.TestCase):
         registry, _ = both([("b", ()), ("a", ("b",))], [("a", "f"), ("b", "f")])
         self.assertEqual(repr(list(courses(registry, "a", "f"))), "[(('a', 'b'), True)]")
         self.assertEqual(repr(longest(registry, "a", "f")), "(('a', 'b'), ('a', 'b'))")
-        self.assertEqual(repr(lost(registry, "a", "f")), "(('a', 'b'), ('a', 'b'))")
+        self.assertEqual(repr(lost(registry, "a", "f")), "(('a', 'b'), ('a',))")
         self.assertEqual(repr(seals(registry, "a", "f")), "['b']")
         self.assertEqual(repr(seal_paper(registry, "a", "f", "b")), "('seal', ())")
 

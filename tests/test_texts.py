@@ -156,7 +156,8 @@ class RegistryTest(unittest.TestCase):
             ("kind a\nkind b a\nkind c a b", 2), ("kind b\nkind a", 2), ("kind a\nbody g -\nbody f -", 3),
             ("kind a\nbody f -\nbody f -", 3), ("kind a\nbody f next\nbody f -", 3), ("kind a\n body f -", 1),
             (ten + "\nkind k", 10), (many + "\nbody j -", 5), (many + "\nbody i -", 6), (many + "\nbody f -", 6),
-            (seven + "\nkind g\nbody f -", 13), (seven + "\nkind g\nbody g -\nkind ", 14), ("kind b\nkind a\nkind a", 2),
+            (seven + "\nkind g\nbody f -", 13), (seven + "\nkind g\nbody g -\nkind ", 14),
+            ("kind b\nkind a\nkind a", 2),
             ("kind a\nbody f " + ", ".join(["next"] * 7), 1), (" ", 0), ("-", 0), ("kind a\r\nkind b", 0),
         ]
         for string, at in rows:
